@@ -1,0 +1,1 @@
+"""Linegate: a gate before a common line of changes."""
