@@ -63,6 +63,12 @@ class Changes:
                     met[lean] = True
         return [lower for lower in range(1, number) if lower in met]
 
+    def copied(self):
+        """Other changes that are like these."""
+        other = Changes()
+        other.entries.extend(self.entries)
+        return other
+
     def has(self, number):
         """Whether a number is a change's."""
         return within(number, 1, self.many())
