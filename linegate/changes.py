@@ -22,8 +22,8 @@ class Changes:
             raise NoChange("this rank, these leans and these edits make no change")
         if self.many() >= MOST_CHANGES:
             raise TooMany("no more changes can be added")
-        # Tuples, so that a list handed in may be changed afterwards.
-        self.entries.append((rank, tuple(leans), tuple(edits)))
+        # Tuples all through, so that a list handed in may be changed afterwards.
+        self.entries.append((rank, tuple(leans), tuple([tuple(edit) for edit in edits])))
         return self.many()
 
     def many(self):

@@ -18,25 +18,33 @@ def layable(changes, line, laid, waiting):
 
 def next_laid(changes, line, laid, waiting):
     """The one that is laid next, or None where none can be laid."""
-    values = values_behind(changes, line, laid)
-    # In turn, so that no more edits are tried than up to the first that fit.
-    for number in in_turn(changes, free(changes, line, laid, waiting)):
-        if fits(changes, values, number):
-            return number
-    return None
+    return first_fitting(changes, values_behind(changes, line, laid), free(changes, line, laid, waiting))
 
 
 def filled(changes, line, laid, waiting, width):
     """The laid ones, with one after another put behind them up to a width."""
     told = list(laid)
     left = list(waiting)
+    # Kept up with each one laid, so that the line is not gone through for each.
+    values = values_behind(changes, line, laid)
     while len(told) < width:
-        chosen = next_laid(changes, line, told, left)
+        chosen = first_fitting(changes, values, free(changes, line, told, left))
         if chosen is None:
             return told
         told.append(chosen)
         left.remove(chosen)
+        for slot, old, new in changes.edits_of(chosen):
+            values[slot] = new
     return told
+
+
+def first_fitting(changes, values, numbers):
+    """The one of greatest rank, then least number, whose edits fit values by slot, or None."""
+    # In turn, so that no more edits are tried than up to the first that fit.
+    for number in in_turn(changes, numbers):
+        if fits(changes, values, number):
+            return number
+    return None
 
 
 def in_turn(changes, numbers):

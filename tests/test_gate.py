@@ -3,6 +3,7 @@
 import itertools
 import unittest
 
+from helper import shown, shown_changes
 from linegate import errors
 from linegate.changes import Changes
 from linegate.errors import LinegateError, NoAnswer, NoChange, NoLook, NoRule, TooLate, TooMany
@@ -12,21 +13,6 @@ REFUSALS = (
     errors.NoFit, errors.NoChange, errors.TooMany, errors.NoRule, errors.NoAnswer, errors.NoLook, errors.TooLate,
     errors.NoRow, errors.NoText,
 )
-
-
-def shown_changes(changes):
-    numbers = range(1, changes.many() + 1)
-    return [(changes.rank_of(number), changes.leans_of(number), changes.edits_of(number)) for number in numbers]
-
-
-def shown(gate):
-    """All that a gate tells of itself."""
-    return {
-        "line": gate.line(), "laid": gate.laid(), "waiting": gate.waiting(), "outs": gate.outs(),
-        "wanted": gate.wanted(), "bad": gate.bad(), "stopped": gate.stopped(), "sheet": gate.sheet(),
-        "growths": gate.growths(), "settled": gate.settled(), "settings": gate.settings(),
-        "changes": shown_changes(gate.changes()), "counts": gate.counts(),
-    }
 
 
 def gate_with(many, width=4, hands=2, need=1, tries=1):

@@ -8,12 +8,11 @@ import itertools
 import random
 import unittest
 
+from helper import WORDS, Chance, shown, told_or_refused
 from linegate.changes import stands
-from linegate.errors import LinegateError, NoAnswer, NoChange, NoLook, TooLate, TooMany
+from linegate.errors import NoAnswer, NoChange, NoLook, TooLate, TooMany
 from linegate.gate import Gate
 from linegate.places import most_bad
-
-WORDS = ("yes", "no", "unsure")
 
 
 def values_of(changes, row):
@@ -198,26 +197,6 @@ class PlainGate:
         }
 
 
-def shown(gate):
-    changes = gate.changes()
-    numbers = range(1, changes.many() + 1)
-    told = {
-        name: getattr(gate, name)() for name in (
-            "line", "laid", "waiting", "outs", "wanted", "bad", "stopped", "sheet", "growths", "settled",
-            "settings", "counts",
-        )
-    }
-    told["changes"] = [(changes.rank_of(one), changes.leans_of(one), changes.edits_of(one)) for one in numbers]
-    return told
-
-
-def told_or_refused(gate, deed):
-    try:
-        return getattr(gate, deed[0])(*deed[1:])
-    except LinegateError as refusal:
-        return refusal.__class__
-
-
 class RunTest(unittest.TestCase):
     def run_deeds(self, settings, deeds):
         """Do deeds, each told by what a gate tells ahead of it, on both gates."""
@@ -227,8 +206,8 @@ class RunTest(unittest.TestCase):
         for next_deed in deeds:
             deed = next_deed(gate)
             before = shown(gate)
-            told = told_or_refused(gate, deed)
-            self.assertEqual(told, told_or_refused(plain, deed), deed)
+            told = told_or_refused(getattr(gate, deed[0]), *deed[1:])
+            self.assertEqual(told, told_or_refused(getattr(plain, deed[0]), *deed[1:]), deed)
             after = shown(gate)
             self.assertEqual(after, plain.shown(), deed)
             if isinstance(told, type):
@@ -291,57 +270,6 @@ class RunTest(unittest.TestCase):
             self.assertEqual(after[name][:len(before[name])], before[name])
         for number, ground in before["outs"]:
             self.assertIn((number, ground), after["outs"])
-
-
-class Chance:
-    """Deeds by chance, some of them to be refused."""
-
-    def __init__(self, seed, slots, weights):
-        self.chance = random.Random(seed)
-        self.slots = slots
-        self.weights = weights
-
-    def settings(self):
-        tries = self.chance.choice((1, 1, 2, 3, 5))
-        need = self.chance.randint(1, tries)
-        return (self.chance.choice((1, 2, 3, 4, 5, 8, 16)), self.chance.choice((1, 1, 2, 3, 8)), need, tries)
-
-    def deed(self, gate):
-        kind = self.chance.choices(("ask", "withdraw", "answer", "stop", "go", "wrong"), self.weights)[0]
-        if kind == "answer" and not gate.wanted():
-            kind = "go" if gate.stopped() and self.chance.random() < 0.3 else "ask"
-        return getattr(self, kind)(gate)
-
-    def ask(self, gate):
-        many = gate.changes().many()
-        leans = sorted(self.chance.sample(range(1, many + 1), min(many, self.chance.choice((0, 0, 0, 1, 1, 2)))))
-        edits = []
-        for slot in sorted(self.chance.sample(range(self.slots), self.chance.choice((0, 0, 1, 1, 2)))):
-            old = dict(gate.sheet()).get(slot, 0) if self.chance.random() < 0.6 else self.chance.randint(0, 2)
-            edits.append((slot, old, (old + self.chance.randint(1, 2)) % 3))
-        return ("ask", self.chance.randint(0, 3), leans, edits)
-
-    def withdraw(self, gate):
-        there = gate.laid() + gate.waiting()
-        return ("withdraw", self.chance.choice(there) if there else 1)
-
-    def answer(self, gate):
-        return ("answer", self.chance.choice(gate.wanted()), self.chance.choices(WORDS, (5, 3, 2))[0])
-
-    def stop(self, gate):
-        return ("stop",)
-
-    def go(self, gate):
-        return ("go",)
-
-    def wrong(self, gate):
-        many = gate.changes().many()
-        looks = gate.wanted() + gate.growths() + [look for look, word in gate.settled()]
-        look = self.chance.choice(looks + [(), tuple(gate.line()), (1,), (many,)])
-        return self.chance.choice((
-            ("ask", 0, [many + 1], []), ("withdraw", self.chance.randint(0, many + 1)),
-            ("answer", look, self.chance.choice(("", "more", "Yes"))), ("answer", look, "yes"), ("answer", look, "no"),
-        ))
 
 
 class ChanceRunsTest(RunTest):

@@ -2,17 +2,8 @@
 
 import unittest
 
+from helper import gate_of
 from linegate.gate import Gate
-
-
-def gate_of(settings, *triples):
-    """A gate that changes of these ranks, leans and edits asked while it was stopped."""
-    gate = Gate(*settings)
-    gate.stop()
-    for rank, leans, edits in triples:
-        gate.ask(rank, leans, edits)
-    gate.go()
-    return gate
 
 
 def plain_gate(settings, many):
